@@ -1,0 +1,45 @@
+package machine
+
+import "leak/api"
+
+func (m *machine) see(b byte) {
+	m.seen = append(m.seen, b)
+}
+
+// seeWord lets the word with the number x be seen, and traps the run if there
+// is none.
+func (m *machine) seeWord(x int) {
+	shown := x
+	if m.view >= api.Line {
+		shown = halve(x, m.view-api.Line)
+	}
+	m.see('m')
+	m.see(digit(shown / 16))
+	m.see(digit(shown % 16))
+	if x >= m.head.Words {
+		m.see('o')
+		m.trapped = true
+	}
+}
+
+// seeDivision lets be seen that x is divided by y, and traps the run if y is 0.
+func (m *machine) seeDivision(x, y int) {
+	if y != 0 {
+		m.see('v')
+	} else {
+		m.see('x')
+		m.trapped = true
+	}
+	if m.view == api.Time {
+		m.see(digit(bits(x)))
+		m.see(digit(bits(y)))
+	}
+}
+
+// digit tells the digit to the base 16 of a number from 0 to 15.
+func digit(n int) byte {
+	if n < 10 {
+		return '0' + byte(n)
+	}
+	return 'a' + byte(n-10)
+}
