@@ -3,6 +3,7 @@ package leak
 
 import (
 	"leak/api"
+	"leak/lower"
 	"leak/machine"
 	"leak/syntax"
 )
@@ -15,23 +16,26 @@ func Check(kernel string) (api.Errno, int) {
 
 // Run runs a kernel (P4).
 func Run(kernel string, view int, in []int, fuel int) (api.Result, api.Errno) {
-	k := syntax.ReadKernel(kernel)
-	if k.Error != api.OK {
-		return api.Result{}, k.Error
-	}
-	e := refusal(k.Head, view, in, fuel)
+	return run(syntax.ReadKernel(kernel), view, in, fuel)
+}
+
+func run(p syntax.Program, view int, in []int, fuel int) (api.Result, api.Errno) {
+	e := refusal(p, view, in, fuel)
 	if e != api.OK {
 		return api.Result{}, e
 	}
-	return machine.RunKernel(k, view, in, fuel), api.OK
+	return machine.Run(p, view, in, fuel), api.OK
 }
 
 // refusal tells why a run may not begin, or OK.
-func refusal(h syntax.Head, view int, in []int, fuel int) api.Errno {
+func refusal(p syntax.Program, view int, in []int, fuel int) api.Errno {
+	if p.Error != api.OK {
+		return p.Error
+	}
 	if view < 0 || view > api.MaxView {
 		return api.ErrView
 	}
-	if !h.IsInput(in) {
+	if !p.Head.IsInput(in) {
 		return api.ErrInput
 	}
 	if fuel < 0 || fuel > api.MaxFuel {
@@ -41,18 +45,34 @@ func refusal(h syntax.Head, view int, in []int, fuel int) api.Errno {
 }
 
 // CheckCode tells whether a text is a code (P5).
-func CheckCode(code string) (api.Errno, int) { return api.OK, 0 }
+func CheckCode(code string) (api.Errno, int) {
+	c := syntax.ReadCode(code)
+	return c.Error, c.Place
+}
 
 // Exec runs a code (P6).
 func Exec(code string, view int, in []int, fuel int) (api.Result, api.Errno) {
-	return api.Result{}, api.OK
+	return run(syntax.ReadCode(code), view, in, fuel)
 }
 
 // Path tells over which lines a code goes (P6).
-func Path(code string, in []int, fuel int) ([]int, api.Errno) { return nil, api.OK }
+func Path(code string, in []int, fuel int) ([]int, api.Errno) {
+	c := syntax.ReadCode(code)
+	e := refusal(c, api.Base, in, fuel)
+	if e != api.OK {
+		return nil, e
+	}
+	return machine.Path(c, in, fuel), api.OK
+}
 
 // Lower turns a kernel into a code (P7).
-func Lower(kernel string) (string, api.Errno) { return "", api.OK }
+func Lower(kernel string) (string, api.Errno) {
+	k := syntax.ReadKernel(kernel)
+	if k.Error != api.OK {
+		return "", k.Error
+	}
+	return lower.Code(k), api.OK
+}
 
 // Solve finds values that satisfy clauses (P8).
 func Solve(n int, clauses []int) (int, []int, api.Errno) { return 0, nil, api.OK }

@@ -4,6 +4,7 @@ import (
 	"fmt"
 	"math/bits"
 	"math/rand"
+	"strconv"
 	"strings"
 
 	"leak/api"
@@ -15,11 +16,18 @@ import (
 const operations = "+-&|^<=UD/%"
 
 // place tells the place of the first byte that cannot stand, or -1 for a
-// kernel. It keeps a stack of what must come, signs of a grammar on
-// top of each other, the next one last.
-func place(text string) int {
+// kernel.
+func place(text string) int { return placeBehindHead(text, 'B') }
+
+// codePlace is the same for a code, without a look at where its lines go on.
+func codePlace(text string) int { return placeBehindHead(text, 'K') }
+
+// placeBehindHead keeps a stack of what must come, signs of a grammar on top of
+// each other, the next one last. The sign for what comes behind the head is
+// handed over.
+func placeBehindHead(text string, behind byte) int {
 	vars, words := 0, 0
-	stack := []byte("B:M/LW")
+	stack := []byte{behind, ':', 'M', '/', 'L', 'W'}
 	for at := 0; at < len(text); at++ {
 		b := text[at]
 		letter := b == 'p' || b == 's'
@@ -61,6 +69,26 @@ func place(text string) int {
 				ok = variable || b >= '0' && b <= '9'
 			case 'O':
 				ok = strings.IndexByte(operations, b) >= 0
+			case 'N':
+				ok = b >= '0' && b <= '9' || b >= 'a' && b <= 'f'
+			case 'K', 'k': // a first line, then more
+				ok = true
+				stack = append(stack, 'k')
+				switch b {
+				case '=':
+					stack = append(stack, "XOXV"...)
+				case 'l':
+					stack = append(stack, "XV"...)
+				case 's':
+					stack = append(stack, "XX"...)
+				case 'z':
+					stack = append(stack, "NNX"...)
+				case 'j':
+					stack = append(stack, "NN"...)
+				case 'h':
+				default:
+					return at
+				}
 			case 'B':
 				ok = true
 				switch b {
@@ -83,7 +111,7 @@ func place(text string) int {
 			}
 		}
 	}
-	if string(stack) != "B" {
+	if string(stack) != "B" && string(stack) != "k" {
 		return len(text)
 	}
 	return -1
@@ -164,23 +192,14 @@ func (w *walker) walk(body string) bool {
 		}
 		switch body[0] {
 		case '=':
-			if !w.set(body[1]-'a', w.operand(body[2]), body[3], w.operand(body[4])) {
+			if !w.do(body[:5]) {
 				return false
 			}
 			body = body[5:]
-		case 'l':
-			at := w.operand(body[2])
-			if !w.touch(at) {
+		case 'l', 's':
+			if !w.do(body[:3]) {
 				return false
 			}
-			w.r.State[body[1]-'a'] = w.r.State[w.vars+at]
-			body = body[3:]
-		case 's':
-			at := w.operand(body[1])
-			if !w.touch(at) {
-				return false
-			}
-			w.r.State[w.vars+at] = w.operand(body[2])
 			body = body[3:]
 		case '?':
 			first, rest := block(body[2:])
@@ -202,6 +221,80 @@ func (w *walker) walk(body string) bool {
 		}
 	}
 	return true
+}
+
+// do does a set, a load or a store and tells whether the run goes on.
+func (w *walker) do(command string) bool {
+	switch command[0] {
+	case '=':
+		return w.set(command[1]-'a', w.operand(command[2]), command[3], w.operand(command[4]))
+	case 'l':
+		at := w.operand(command[2])
+		if !w.touch(at) {
+			return false
+		}
+		w.r.State[command[1]-'a'] = w.r.State[w.vars+at]
+	case 's':
+		at := w.operand(command[1])
+		if !w.touch(at) {
+			return false
+		}
+		w.r.State[w.vars+at] = w.operand(command[2])
+	}
+	return true
+}
+
+// linesOf takes the lines of a code apart.
+func linesOf(lines string) []string {
+	var l []string
+	for lines != "" {
+		size := map[byte]int{'=': 5, 'l': 3, 's': 3, 'z': 4, 'j': 3, 'h': 1}[lines[0]]
+		l = append(l, lines[:size])
+		lines = lines[size:]
+	}
+	return l
+}
+
+// goesTo tells the number at the end of a line z or j.
+func goesTo(line string) int {
+	n, _ := strconv.ParseInt(line[len(line)-2:], 16, 0)
+	return int(n)
+}
+
+// execByText tells the result of a run of a right code with right arguments,
+// and its path.
+func execByText(code string, view int, in []int, fuel int) (api.Result, []int) {
+	s, body := shapeOf(code)
+	w := walker{shape: s, view: view, fuel: fuel}
+	w.r.State = append(w.r.State, in...)
+	lines := linesOf(body)
+	var path []int
+	for at := 0; w.step(); {
+		path = append(path, at)
+		at = w.line(lines[at], at)
+		if w.r.Tag != 0 {
+			break
+		}
+	}
+	w.r.Seen = w.seen.String()
+	return w.r, path
+}
+
+// line does a line and tells where the run goes on.
+func (w *walker) line(line string, at int) int {
+	switch line[0] {
+	case 'h':
+		w.r.Tag = api.Halt
+	case 'j':
+		return goesTo(line)
+	case 'z':
+		if !w.test(line[1]) {
+			return goesTo(line)
+		}
+	default:
+		w.do(line)
+	}
+	return at + 1
 }
 
 func (w *walker) test(x byte) bool {
@@ -291,17 +384,58 @@ func (m *maker) letters(n int) string {
 	return string(s)
 }
 
+func (m *maker) head() string {
+	m.shape = shape{1 + m.Intn(8), 1 + m.Intn(8), m.Intn(17)}
+	if m.Intn(2) == 0 { // few values: runs that trap less and loop less
+		m.shape = shape{1 + m.Intn(4), 1 + m.Intn(3), m.Intn(17)}
+	}
+	return fmt.Sprintf("%d%s/%s:", m.width, m.letters(m.vars), m.letters(m.words))
+}
+
 func (m *maker) kernel() string {
 	for {
-		m.shape = shape{1 + m.Intn(8), 1 + m.Intn(8), m.Intn(17)}
-		if m.Intn(2) == 0 { // few values: runs that trap less and loop less
-			m.shape = shape{1 + m.Intn(4), 1 + m.Intn(3), m.Intn(17)}
-		}
-		k := fmt.Sprintf("%d%s/%s:%s", m.width, m.letters(m.vars), m.letters(m.words), m.body(4))
+		k := m.head() + m.body(4)
 		if len(k) <= api.MaxText {
 			return k
 		}
 	}
+}
+
+// code makes a code. All its lines go on at lines that are there.
+func (m *maker) code() string {
+	for {
+		c := m.head()
+		n := 1 + m.Intn(9)
+		if m.Intn(8) == 0 {
+			n = 1 + m.Intn(300)
+		}
+		for i := 0; i < n; i++ {
+			c += m.line(i, n)
+		}
+		if len(c) <= api.MaxCode {
+			return c
+		}
+	}
+}
+
+// line makes the line with the number at of n lines.
+func (m *maker) line(at, n int) string {
+	to := fmt.Sprintf("%02x", m.Intn(min(n, 256)))
+	kind := m.Intn(12)
+	if at == n-1 {
+		kind = 10 + m.Intn(2)
+	}
+	switch kind {
+	case 7, 8, 9:
+		return "z" + m.operand() + to
+	case 10:
+		return "j" + to
+	case 11:
+		if at == n-1 || m.Intn(2) == 0 {
+			return "h"
+		}
+	}
+	return m.plain(kind)
 }
 
 func (m *maker) variable() string { return string(rune('a' + m.Intn(m.vars))) }
@@ -321,22 +455,29 @@ func (m *maker) body(depth int) string {
 			kind %= 6
 		}
 		switch kind {
-		case 0, 1, 2, 3:
-			s += "=" + m.variable() + m.operand() + string(operations[m.Intn(len(operations))]) + m.operand()
-		case 4:
-			s += "l" + m.variable() + m.operand()
-		case 5:
-			s += "s" + m.operand() + m.operand()
 		case 6:
 			s += "?" + m.operand() + "(" + m.body(depth-1) + ")(" + m.body(depth-1) + ")"
 		case 7:
 			s += "!" + m.operand() + "(" + m.body(depth-1) + ")"
+		default:
+			s += m.plain(kind)
 		}
 	}
 	return s
 }
 
-// input makes an input of the kernel that was made last.
+// plain makes a set, a load or a store.
+func (m *maker) plain(kind int) string {
+	switch kind {
+	case 4:
+		return "l" + m.variable() + m.operand()
+	case 5:
+		return "s" + m.operand() + m.operand()
+	}
+	return "=" + m.variable() + m.operand() + string(operations[m.Intn(len(operations))]) + m.operand()
+}
+
+// input makes an input of the kernel or code that was made last.
 func (m *maker) input() []int {
 	in := make([]int, m.vars+m.words)
 	most := 1 << m.width
@@ -347,4 +488,25 @@ func (m *maker) input() []int {
 		in[i] = m.Intn(most)
 	}
 	return in
+}
+
+// codeAnswer tells what CheckCode must answer.
+func codeAnswer(text string) (api.Errno, int) {
+	if len(text) > api.MaxCode {
+		return api.ErrLong, 0
+	}
+	if at := codePlace(text); at >= 0 {
+		return api.ErrForm, at
+	}
+	_, body := shapeOf(text)
+	lines := linesOf(body)
+	for i, line := range lines {
+		if strings.IndexByte("zj", line[0]) >= 0 && goesTo(line) >= len(lines) {
+			return api.ErrJump, i
+		}
+	}
+	if strings.IndexByte("hj", lines[len(lines)-1][0]) < 0 {
+		return api.ErrJump, len(lines)
+	}
+	return api.OK, 0
 }

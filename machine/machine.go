@@ -12,24 +12,23 @@ type machine struct {
 	view    int
 	state   []int // of each variable, then of each word
 	seen    []byte
-	steps   int
+	path    []int // the number of the command of each step
 	trapped bool
 }
 
-// RunKernel runs a kernel. The list must be an input of it.
-func RunKernel(k syntax.Kernel, view int, in []int, fuel int) api.Result {
-	m := begin(k.Head, view, in)
-	at := 0
-	for at < len(k.Commands) {
-		if m.steps >= fuel {
-			return m.result(api.Fuel)
-		}
-		at = m.step(k.Commands[at])
-		if m.trapped {
-			return m.result(api.Trap)
-		}
-	}
-	return m.result(api.Halt)
+// Run runs a kernel or a code. The list must be an input of it.
+func Run(p syntax.Program, view int, in []int, fuel int) api.Result {
+	m := begin(p.Head, view, in)
+	tag := m.run(p.Commands, fuel)
+	return api.Result{Tag: tag, Steps: len(m.path), Seen: string(m.seen), State: m.state}
+}
+
+// Path tells the numbers of the commands that are done in a run. They are the
+// same in every view.
+func Path(p syntax.Program, in []int, fuel int) []int {
+	m := begin(p.Head, api.Base, in)
+	m.run(p.Commands, fuel)
+	return m.path
 }
 
 func begin(h syntax.Head, view int, in []int) machine {
@@ -38,13 +37,25 @@ func begin(h syntax.Head, view int, in []int) machine {
 	return machine{head: h, view: view, state: state}
 }
 
-func (m *machine) result(tag int) api.Result {
-	return api.Result{Tag: tag, Steps: m.steps, Seen: string(m.seen), State: m.state}
+// run takes steps until the run ends, and tells its tag. It serves kernels and
+// codes alike: of a code, the line that ends it leads to the end by a step.
+func (m *machine) run(commands []syntax.Command, fuel int) int {
+	at := 0
+	for at < len(commands) {
+		if len(m.path) >= fuel {
+			return api.Fuel
+		}
+		m.path = append(m.path, at)
+		at = m.step(commands[at])
+		if m.trapped {
+			return api.Trap
+		}
+	}
+	return api.Halt
 }
 
 // step does one command and tells the number of the one that follows.
 func (m *machine) step(c syntax.Command) int {
-	m.steps++
 	switch c.Kind {
 	case syntax.Set:
 		m.set(c)
@@ -52,7 +63,7 @@ func (m *machine) step(c syntax.Command) int {
 		m.load(c)
 	case syntax.Store:
 		m.store(c)
-	case syntax.Branch, syntax.Loop:
+	case syntax.Branch, syntax.Loop, syntax.Zero:
 		return m.test(c)
 	}
 	return c.Yes

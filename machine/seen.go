@@ -1,6 +1,9 @@
 package machine
 
-import "leak/api"
+import (
+	"leak/api"
+	"leak/syntax"
+)
 
 func (m *machine) see(b byte) {
 	m.seen = append(m.seen, b)
@@ -14,8 +17,8 @@ func (m *machine) seeWord(x int) {
 		shown = halve(x, m.view-api.Line)
 	}
 	m.see('m')
-	m.see(digit(shown / 16))
-	m.see(digit(shown % 16))
+	m.see(syntax.Digit(shown / 16))
+	m.see(syntax.Digit(shown % 16))
 	if x >= m.head.Words {
 		m.see('o')
 		m.trapped = true
@@ -31,15 +34,7 @@ func (m *machine) seeDivision(x, y int) {
 		m.trapped = true
 	}
 	if m.view == api.Time {
-		m.see(digit(bits(x)))
-		m.see(digit(bits(y)))
+		m.see(syntax.Digit(bits(x)))
+		m.see(syntax.Digit(bits(y)))
 	}
-}
-
-// digit tells the digit to the base 16 of a number from 0 to 15.
-func digit(n int) byte {
-	if n < 10 {
-		return '0' + byte(n)
-	}
-	return 'a' + byte(n-10)
 }

@@ -1,12 +1,15 @@
 package syntax
 
-// The kinds of commands: the byte that each begins with.
+// The kinds of commands and of lines: the byte that each begins with.
 const (
 	Set    byte = '='
 	Load   byte = 'l'
 	Store  byte = 's'
 	Branch byte = '?'
 	Loop   byte = '!'
+	Zero   byte = 'z'
+	Jump   byte = 'j'
+	End    byte = 'h'
 )
 
 // The operations.
@@ -35,7 +38,7 @@ type Operand struct {
 	Number int // of the variable, if it is named; else the value itself
 }
 
-// Command is one command. What a kind does not have is left 0.
+// Command is one command or one line. What a kind does not have is left 0.
 type Command struct {
 	Kind byte
 	Var  int
@@ -54,6 +57,14 @@ func isCommand(b byte) bool {
 	return false
 }
 
+func isLine(b byte) bool {
+	switch b {
+	case Set, Load, Store, Zero, Jump, End:
+		return true
+	}
+	return false
+}
+
 func isOperation(b byte) bool {
 	switch b {
 	case Add, Subtract, And, Or, Xor, Below, Equal, Up, Down, Quotient, Rest:
@@ -62,7 +73,7 @@ func isOperation(b byte) bool {
 	return false
 }
 
-// takeCommand takes a command up to the bodies in it.
+// takeCommand takes a line, or a command up to the bodies in it.
 func (r *reader) takeCommand() Command {
 	var c Command
 	c.Kind = r.peek()
@@ -81,6 +92,11 @@ func (r *reader) takeCommand() Command {
 		c.Y = r.takeOperand()
 	case Branch, Loop:
 		c.X = r.takeOperand()
+	case Zero:
+		c.X = r.takeOperand()
+		c.No = r.takeNumber()
+	case Jump:
+		c.Yes = r.takeNumber()
 	}
 	return c
 }

@@ -2,8 +2,9 @@ package syntax
 
 import "leak/api"
 
-// Head is what stands ahead of a kernel's body.
+// Head is what stands ahead of a kernel's body and of a code's lines.
 type Head struct {
+	Text   string
 	Width  int // bits of a value
 	Values int // how many values there are, at least 2
 	Vars   int
@@ -36,6 +37,7 @@ func (r *reader) readHead() {
 	r.take('/')
 	r.head.Words = r.takeLetters(api.MaxWords)
 	r.take(':')
+	r.head.Text = r.text[:r.at]
 }
 
 // takeLetters takes letters p and s, as many as there are up to a bound, and tells how many.

@@ -2,28 +2,18 @@ package syntax
 
 import "leak/api"
 
-// Kernel is a text as it was read. Its commands stand in the order of the
-// text, the bodies of branches and loops among them, and each names the ones
-// that may follow it; the number of commands stands for the end.
-type Kernel struct {
-	Error    api.Errno // if it is not OK, there is no kernel
-	Place    int       // with ErrForm: of the first byte that cannot stand there
-	Head     Head
-	Commands []Command
-}
-
 // ReadKernel reads a kernel.
-func ReadKernel(text string) Kernel {
+func ReadKernel(text string) Program {
 	if len(text) > api.MaxText {
-		return Kernel{Error: api.ErrLong}
+		return Program{Error: api.ErrLong}
 	}
 	r := reader{text: text}
 	r.readHead()
 	r.readBody()
 	if r.bad || r.at < len(text) {
-		return Kernel{Error: api.ErrForm, Place: r.at}
+		return Program{Error: api.ErrForm, Place: r.at}
 	}
-	return Kernel{Error: api.OK, Head: r.head, Commands: r.commands}
+	return Program{Error: api.OK, Head: r.head, Commands: r.commands}
 }
 
 // readBody takes commands as long as there are any: what stands behind them

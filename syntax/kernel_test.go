@@ -12,9 +12,9 @@ func TestHead(t *testing.T) {
 		text string
 		head Head
 	}{
-		{"1p/:", Head{Width: 1, Values: 2, Vars: 1, Words: 0}},
-		{"2sp/ppp:", Head{Width: 2, Values: 4, Vars: 2, Words: 3}},
-		{"8" + strings.Repeat("s", 8) + "/" + strings.Repeat("p", 16) + ":", Head{Width: 8, Values: 256, Vars: 8, Words: 16}},
+		{"1p/:", Head{Text: "1p/:", Width: 1, Values: 2, Vars: 1, Words: 0}},
+		{"2sp/ppp:", Head{Text: "2sp/ppp:", Width: 2, Values: 4, Vars: 2, Words: 3}},
+		{"8" + strings.Repeat("s", 8) + "/" + strings.Repeat("p", 16) + ":", Head{Text: "8ssssssss/pppppppppppppppp:", Width: 8, Values: 256, Vars: 8, Words: 16}},
 	} {
 		k := ReadKernel(c.text)
 		if k.Error != api.OK || k.Place != 0 || k.Head != c.head || len(k.Commands) != 0 {

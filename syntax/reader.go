@@ -1,4 +1,4 @@
-// Package syntax reads texts: heads, commands, kernels.
+// Package syntax reads texts: heads, commands, kernels, codes.
 package syntax
 
 // A reader goes over a text from its beginning on. At the first byte that
