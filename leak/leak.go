@@ -5,6 +5,7 @@ import (
 	"leak/api"
 	"leak/lower"
 	"leak/machine"
+	"leak/solver"
 	"leak/syntax"
 )
 
@@ -75,7 +76,17 @@ func Lower(kernel string) (string, api.Errno) {
 }
 
 // Solve finds values that satisfy clauses (P8).
-func Solve(n int, clauses []int) (int, []int, api.Errno) { return 0, nil, api.OK }
+func Solve(n int, clauses []int) (int, []int, api.Errno) {
+	if !solver.AreClauses(n, clauses) {
+		return 0, nil, api.ErrClause
+	}
+	s := solver.New(n)
+	s.AddAll(clauses)
+	if !s.Solve() {
+		return api.None, nil, api.OK
+	}
+	return api.Found, s.Values(), api.OK
+}
 
 // Decide tells whether a kernel is quiet (P9).
 func Decide(kernel string, view int) (int, []int, []int, api.Errno) { return 0, nil, nil, api.OK }
