@@ -5,6 +5,7 @@ import (
 	"leak/api"
 	"leak/lower"
 	"leak/machine"
+	"leak/quiet"
 	"leak/solver"
 	"leak/syntax"
 )
@@ -89,4 +90,19 @@ func Solve(n int, clauses []int) (int, []int, api.Errno) {
 }
 
 // Decide tells whether a kernel is quiet (P9).
-func Decide(kernel string, view int) (int, []int, []int, api.Errno) { return 0, nil, nil, api.OK }
+func Decide(kernel string, view int) (int, []int, []int, api.Errno) {
+	k := syntax.ReadKernel(kernel)
+	switch {
+	case k.Error != api.OK:
+		return 0, nil, nil, k.Error
+	case view < 0 || view > api.MaxView:
+		return 0, nil, nil, api.ErrView
+	case k.HasLoop():
+		return 0, nil, nil, api.ErrLoop
+	}
+	isQuiet, x, y := quiet.Decide(k, view)
+	if isQuiet {
+		return api.Yes, nil, nil, api.OK
+	}
+	return api.No, x, y, api.OK
+}

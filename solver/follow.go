@@ -1,15 +1,22 @@
 package solver
 
+// A watcher is a clause that watches a literal, and another literal of it: where
+// that one holds, the clause need not be looked at, which saves most of the time.
+type watcher struct {
+	number int
+	other  int
+}
+
 // keep takes a clause in, under the next number.
 func (s *Solver) keep(c clause) {
 	number := len(s.clauses)
 	s.clauses = append(s.clauses, c)
-	s.watch(c.literals[0], number)
-	s.watch(c.literals[1], number)
+	s.watch(c.literals[0], number, c.literals[1])
+	s.watch(c.literals[1], number, c.literals[0])
 }
 
-func (s *Solver) watch(l, number int) {
-	s.watchers[l] = append(s.watchers[l], number)
+func (s *Solver) watch(l, number, other int) {
+	s.watchers[l] = append(s.watchers[l], watcher{number: number, other: other})
 }
 
 // follow lets hold what must, since other literals hold. It tells a clause that
@@ -28,21 +35,24 @@ func (s *Solver) follow() int {
 // Each watches another one from now on, or asks for the other one that it
 // watches. It tells a clause that can hold no more, or none.
 func (s *Solver) alarm(l int) int {
-	numbers := s.watchers[l]
+	watchers := s.watchers[l]
 	kept := 0
 	conflict := none
-	for i := 0; i < len(numbers); i++ {
-		number := numbers[i]
-		if conflict == none && s.turn(number, l) {
-			continue
+	for i := 0; i < len(watchers); i++ {
+		w := watchers[i]
+		if conflict == none && s.known[w.other] != holds {
+			if s.turn(w.number, l) {
+				continue
+			}
+			w.other = s.clauses[w.number].literals[0]
+			if !s.ask(w.number) {
+				conflict = w.number
+			}
 		}
-		numbers[kept] = number
+		watchers[kept] = w
 		kept++
-		if conflict == none && !s.ask(number) {
-			conflict = number
-		}
 	}
-	s.watchers[l] = numbers[:kept]
+	s.watchers[l] = watchers[:kept]
 	return conflict
 }
 
@@ -62,7 +72,7 @@ func (s *Solver) turn(number, l int) bool {
 		if s.known[m] != fails {
 			literals[1] = m
 			literals[i] = l
-			s.watch(m, number)
+			s.watch(m, number, literals[0])
 			return true
 		}
 	}

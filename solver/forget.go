@@ -1,8 +1,9 @@
 package solver
 
 const (
-	firstPatience = 100  // conflicts ahead of the first restart
+	usualPatience = 60   // conflicts ahead of the first restart
 	firstRoom     = 2000 // learned clauses ahead of the first forgetting
+	moreRoom      = 300  // how many more there may be ahead of the next one
 )
 
 // restart takes all choices back. By what it has learned, the search goes another
@@ -10,11 +11,23 @@ const (
 func (s *Solver) restart() {
 	s.back(0)
 	s.conflicts = 0
-	s.patience += s.patience/4 + 1
+	s.nextWait()
 	if s.learned > s.room {
 		s.forget()
-		s.room += s.room / 8
+		s.room += moreRoom
 	}
+}
+
+// nextWait tells how many times its patience the search waits for the next
+// restart: 1, 1, 2, 1, 1, 2, 4, 1, 1, 2, 1, 1, 2, 4, 8 and so on. Mostly that is
+// short, as a search that began badly goes on for long. But it grows without end.
+func (s *Solver) nextWait() {
+	if s.round&-s.round == s.wait {
+		s.round++
+		s.wait = 1
+		return
+	}
+	s.wait *= 2
 }
 
 // forget drops half of the learned clauses, since each takes time to follow: those

@@ -28,8 +28,10 @@ func (s *Solver) AddAll(numbers []int) {
 }
 
 // Add adds a clause: i stands for the name i (from 1 on), -i for its contrary.
-// What holds without any choice need not be kept, nor a literal that fails.
+// What holds without any choice need not be kept, nor a literal that fails. So
+// the choices of a search are taken back.
 func (s *Solver) Add(numbers []int) {
+	s.back(0)
 	var literals []int
 	for i := 0; i < len(numbers); i++ {
 		l := literalOf(numbers[i])

@@ -28,6 +28,14 @@ func newOrder(names int) order {
 	return o
 }
 
+// add adds the next name.
+func (o *order) add() {
+	name := len(o.worth)
+	o.worth = append(o.worth, 0)
+	o.place = append(o.place, none)
+	o.push(name)
+}
+
 // push puts a name in, unless it is there.
 func (o *order) push(name int) {
 	if o.place[name] != none {

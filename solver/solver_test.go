@@ -60,8 +60,10 @@ func checkInside(t *testing.T, s *Solver, values []int) {
 			learned++
 		}
 		for i := 0; i < 2; i++ {
-			if !slices.Contains(s.watchers[c.literals[i]], number) {
-				t.Fatalf("clause %v does not watch its literal %d", c.literals, i)
+			w := s.watchers[c.literals[i]]
+			at := slices.IndexFunc(w, func(w watcher) bool { return w.number == number })
+			if at < 0 || w[at].other == c.literals[i] || !slices.Contains(c.literals, w[at].other) {
+				t.Fatalf("clause %v does not watch its literal %d as it must: %v", c.literals, i, w)
 			}
 		}
 		for _, v := range values {
@@ -104,11 +106,7 @@ func TestImpatient(t *testing.T) {
 				forgot++
 			}
 			checkInside(t, s, values)
-			number := 0
-			for name, value := range s.Values() {
-				number += value << name
-			}
-			if found && !slices.Contains(values, number) {
+			if found && !slices.Contains(values, valuesOf(s)) {
 				t.Fatalf("Values of %d, %v = %v", n, numbers, s.Values())
 			}
 			if s.Solve() != found {
@@ -174,20 +172,25 @@ func TestLesson(t *testing.T) {
 	}
 }
 
-// TestRestart: restarts become rarer without end, which lets a search end.
+// TestRestart: all choices are taken back, and the waits grow without end, which
+// lets a search end.
 func TestRestart(t *testing.T) {
-	for _, patience := range []int{1, 2, 3, firstPatience} {
-		s := New(2)
-		s.patience = patience
-		for i := 0; i < 50; i++ {
-			before := s.patience
-			s.conflicts = before
-			s.choose()
-			s.restart()
-			if s.conflicts != 0 || s.patience <= before || len(s.choices) != 0 || len(s.trail) != 0 {
-				t.Fatalf("%d conflicts, patience %d, choices %v", s.conflicts, s.patience, s.choices)
-			}
+	s := New(2)
+	var waits []int
+	for i := 0; i < 1<<12; i++ {
+		waits = append(waits, s.wait)
+		s.conflicts = s.patience * s.wait
+		s.choose()
+		s.restart()
+		if s.conflicts != 0 || len(s.choices) != 0 || len(s.trail) != 0 {
+			t.Fatalf("%d conflicts, choices %v", s.conflicts, s.choices)
 		}
+	}
+	if !slices.Equal(waits[:15], []int{1, 1, 2, 1, 1, 2, 4, 1, 1, 2, 1, 1, 2, 4, 8}) {
+		t.Errorf("the first waits are %v", waits[:15])
+	}
+	if slices.Max(waits) != 1<<11 {
+		t.Errorf("the longest wait is %d", slices.Max(waits))
 	}
 }
 
@@ -294,4 +297,59 @@ func TestOrderBounds(t *testing.T) {
 	if first := o.pop(); first != 1 {
 		t.Errorf("name %d comes first", first)
 	}
+}
+
+// TestSolveIf: one solver answers for one number after another, while names and
+// clauses are added, and as if each were its first one.
+func TestSolveIf(t *testing.T) {
+	r := rand.New(rand.NewSource(33))
+	counts := [3]int{}
+	for range 1500 {
+		s := New(r.Intn(3))
+		s.patience = 1 + r.Intn(3)
+		s.room = r.Intn(4)
+		n := len(s.level)
+		var numbers []int
+		for range 12 {
+			if n < 3 || n < 9 && r.Intn(3) == 0 {
+				n++
+				if name := s.NewName(); name != n {
+					t.Fatalf("the name %d is called %d", n, name)
+				}
+			}
+			more := list(r, n, r.Intn(2*n))
+			numbers = append(numbers, more...)
+			s.AddAll(more)
+			number := (1 + r.Intn(n)) * (1 - 2*r.Intn(2))
+			values := all(n, append(slices.Clone(numbers), number, 0))
+			most := r.Intn(3)
+			answer := s.SolveIf(number, most)
+			counts[answer]++
+			if answer == GivenUp && most > 0 {
+				answer = s.SolveIf(number, 0)
+			}
+			if answer == GivenUp || answer == Found != (len(values) > 0) {
+				t.Fatalf("SolveIf(%d) of %d, %v = %d", number, n, numbers, answer)
+			}
+			if answer == Found && (!s.Holds(number) || s.Holds(-number) || !slices.Contains(values, valuesOf(s))) {
+				t.Fatalf("SolveIf(%d) of %d, %v found %v", number, n, numbers, s.Values())
+			}
+			checkInside(t, s, all(n, numbers))
+		}
+		if s.Solve() != (len(all(n, numbers)) > 0) {
+			t.Fatalf("Solve of %d, %v behind other questions", n, numbers)
+		}
+	}
+	if slices.Min(counts[:]) < 50 {
+		t.Errorf("the answers came %v times", counts)
+	}
+}
+
+// valuesOf tells the values that were found as the bits of a number.
+func valuesOf(s *Solver) int {
+	number := 0
+	for name, value := range s.Values() {
+		number += value << name
+	}
+	return number
 }

@@ -47,6 +47,12 @@ type Command struct {
 	Y    Operand
 	Yes  int // the number of the command that follows; of a test, if x is not 0
 	No   int // of a test: the number of the command that follows, if x is 0
+
+	// Of a branch: where in the row its second body begins, and what is behind it.
+	// (What follows the bodies may stand further on, if the branch is the last
+	// command of a body itself.)
+	Second int
+	Behind int
 }
 
 func isCommand(b byte) bool {

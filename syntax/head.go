@@ -24,6 +24,16 @@ func (h Head) IsInput(in []int) bool {
 	return true
 }
 
+// IsPublic tells whether a variable or, behind them, a word is public, by its
+// number in a state.
+func (h Head) IsPublic(number int) bool {
+	at := 1 + number
+	if number >= h.Vars {
+		at++
+	}
+	return at >= 0 && at < len(h.Text) && h.Text[at] == 'p'
+}
+
 func (r *reader) readHead() {
 	r.head.Width = 1 + r.takeBetween('1', '0'+api.MaxWidth)
 	r.head.Values = 1

@@ -53,6 +53,8 @@ func (r *reader) readBranch(at int) {
 	end := len(r.commands)
 	r.redirect(at, second, end)
 	r.commands[at].No = second
+	r.commands[at].Second = second
+	r.commands[at].Behind = end
 }
 
 // readLoop takes the body of the loop with the number at. Its end must lead

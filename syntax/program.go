@@ -12,3 +12,13 @@ type Program struct {
 	Head     Head
 	Commands []Command
 }
+
+// HasLoop tells whether there is a loop among the commands.
+func (p Program) HasLoop() bool {
+	for i := 0; i < len(p.Commands); i++ {
+		if p.Commands[i].Kind == Loop {
+			return true
+		}
+	}
+	return false
+}
