@@ -12,56 +12,55 @@ const (
 	True  = 1
 )
 
-// The kinds of gates. What is not needed of a gate's edges is 0.
-const (
-	input  = 0 // a bit that goes in; the gate 0 is of this kind too
-	and    = 1 // a and b
-	xor    = 2 // a or b, but not both
-	choice = 3 // b, if a holds, else c
-)
-
-type gate struct {
-	kind int
-	a    int
-	b    int
-	c    int
-}
-
 // Circuit is a circuit. No two of its gates are of one kind and have the same
 // edges; so what is built twice, in one way, is one edge.
 type Circuit struct {
-	gates  []gate
-	rows   []int // the last gate of each row: gates of one hash lie in one row
-	before []int // of each gate, the one before it in its row, or none
-	forms  []form
-	names  []int // of each gate, its name among the solver's, or 0
-	solver *solver.Solver
-	values []bool // of each gate, by the values that the last question was answered with
+	gates    []gate
+	rows     []int    // the last gate of each row, or none: gates with one hash lie in one row
+	before   []int    // of each gate, the one before it in its row, or none
+	samples  []sample // of each gate
+	seed     uint64   // what the samples of bits that go in come from
+	merged   []int    // edges, no two of which are known to do the same
+	doubts   int      // how many edges were held against them in vain
+	forms    []form   // of words
+	names    []int    // of each gate, its name among the solver's, or 0
+	solver   *solver.Solver
+	patience int    // conflicts until the solver gives up on a question, at first
+	haste    int    // conflicts until it gives up on whether edges do the same
+	values   []bool // of each gate, by the values that the last question was answered with
 }
 
 const (
 	none    = -1
 	fewRows = 1 << 10 // a power of 2, as the number of rows always is
 	mix     = 31
+
+	firstPatience = 10000
+	firstHaste    = 1000
 )
 
 // New makes a circuit without inputs.
 func New() *Circuit {
-	c := &Circuit{solver: solver.New(0)}
+	c := &Circuit{solver: solver.New(0), seed: firstSeed, patience: firstPatience, haste: firstHaste}
 	c.layRows(fewRows)
-	c.add(gate{kind: input})
+	c.add(gate{kind: nought})
+	c.merge(False)
 	return c
 }
 
 // Input adds a bit that goes in.
 func (c *Circuit) Input() int {
-	return c.add(gate{kind: input})
+	e := c.add(gate{kind: input})
+	c.merge(e)
+	return e
 }
 
 func (c *Circuit) add(g gate) int {
 	number := len(c.gates)
+	s := c.sampleOf(g)
 	c.gates = append(c.gates, g)
 	c.before = append(c.before, none)
+	c.samples = append(c.samples, s)
 	c.names = append(c.names, 0)
 	return 2 * number
 }
@@ -92,14 +91,14 @@ func (c *Circuit) layInRow(number, row int) {
 	c.rows[row] = number
 }
 
-// layRows lays all gates into new rows.
+// layRows lays all gates that can be found into new rows.
 func (c *Circuit) layRows(rows int) {
 	c.rows = make([]int, rows)
 	for i := 0; i < rows; i++ {
 		c.rows[i] = none
 	}
 	for i := 0; i < len(c.gates); i++ {
-		if c.gates[i].kind != input {
+		if c.gates[i].kind != nought && c.gates[i].kind != input {
 			c.layInRow(i, c.rowOf(c.gates[i]))
 		}
 	}

@@ -116,7 +116,7 @@ func checkForm(t *testing.T, c *Circuit) {
 	t.Helper()
 	seen := map[gate]bool{}
 	for i, g := range c.gates {
-		if g.kind == input {
+		if g.kind == nought || g.kind == input {
 			continue
 		}
 		if seen[g] {
@@ -156,7 +156,7 @@ func TestPlain(t *testing.T) {
 	for i, p := range [][2]int{
 		{c.And(x, False), False}, {c.And(True, x), x}, {c.And(x, x), x}, {c.And(x, x^1), False}, {c.And(y, x), both},
 		{c.And(both, x), both}, {c.And(both, y^1), False}, {c.And(both^1, x^1), x ^ 1}, {c.And(both, either), both},
-		{c.And(either, x), x}, {c.And(either^1, both), False}, {c.And(c.Or(x, y), c.Or(x, y^1)), x},
+		{c.And(either, x), x}, {c.And(either^1, both), False}, {c.And(either, c.Or(x, y^1)), x}, {c.And(either, c.Or(x^1, y)), y},
 		{c.Xor(x, x), False}, {c.Xor(x, x^1), True}, {c.Xor(x, False), x}, {c.Xor(True, x), x ^ 1}, {c.Xor(y, x^1), sum ^ 1},
 		{c.Xor(sum, x), y}, {c.Xor(sum^1, y), x ^ 1}, {c.Xor(c.Xor(long, both), z^1), sum ^ 1}, {c.Xor(long, long^1), True},
 		{c.Choice(True, x, y), x}, {c.Choice(False, x, y), y}, {c.Choice(z, x, x), x}, {c.Choice(x, y, False), both},
@@ -193,6 +193,9 @@ func TestManyGates(t *testing.T) {
 		t.Errorf("%d gates, then %d", gates, len(c.gates))
 	}
 	checkForm(t, c)
+	if len(c.rows) < len(c.gates) {
+		t.Errorf("%d gates lie in %d rows", len(c.gates), len(c.rows))
+	}
 }
 
 // TestAsk: a question is answered with yes if some values let the edge hold, and
@@ -212,6 +215,9 @@ func TestAsk(t *testing.T) {
 			if e > True && table != 0 && table>>m.Value(inputs)&1 == 0 {
 				t.Fatalf("Ask(%d) of %b found %b", e, table, m.Value(inputs))
 			}
+			if e <= True && m.Value(inputs) != 0 {
+				t.Fatalf("Ask(%d) found %b", e, m.Value(inputs))
+			}
 			if e <= True {
 				continue
 			}
@@ -230,10 +236,10 @@ func TestAsk(t *testing.T) {
 // TestTrialOfMany: more bits go in than are tried at once, and what is looked for
 // comes late or not at all.
 func TestTrialOfMany(t *testing.T) {
-	for _, n := range []int{lanes - 1, lanes, lanes + 1, 14} {
+	for _, n := range []int{lanes - 1, lanes, lanes + 1, 10} {
 		c := New()
 		word := c.Inputs(n)
-		for _, value := range []int{0, 1, 1<<n - 1, 1 << (n - 1), 1<<(n-1) + 5} {
+		for value := range 1 << n {
 			e := c.Is(word, value)
 			c.nameAll(e / 2)
 			if c.tryAll(e) != solver.Found || c.Value(word) != value {

@@ -47,24 +47,20 @@ func (c *Circuit) subtract(x, y []int) ([]int, int) {
 
 // Divide tells how many times y goes into x and what is left over, if y is not 0.
 // It takes the bits of x from the greatest on, as one does on paper. What is left
-// over is below y each time, so with the next bit it has one bit more than y.
+// over, with the next bit, is never more than what was taken, so it fits.
 func (c *Circuit) Divide(x, y []int) ([]int, []int) {
 	quotient := make([]int, len(x))
-	rest := Constant(len(x)+1, 0)
-	var divisor []int
-	divisor = append(divisor, y...)
-	divisor = append(divisor, False)
+	rest := Constant(len(x), 0)
 	for i := len(x) - 1; i >= 0; i-- {
 		rest = shiftIn(x[i], rest)
-		difference, below := c.subtract(rest, divisor)
+		difference, below := c.subtract(rest, y)
 		quotient[i] = below ^ 1
 		rest = c.ChoiceOfWords(below, rest, difference)
 	}
-	return quotient, rest[:len(x)]
+	return quotient, rest
 }
 
-// shiftIn moves a word up by one bit, and a bit in below. What was the greatest
-// bit is lost.
+// shiftIn moves a word up by one bit, and a bit in below. The greatest bit is lost.
 func shiftIn(bit int, word []int) []int {
 	moved := make([]int, len(word))
 	for i := 1; i < len(word); i++ {
@@ -92,12 +88,14 @@ func (c *Circuit) Up(x, y []int) []int {
 	return c.sumUp(word, Constant(len(x), 0), x, power(valueOf(y), len(x)))
 }
 
-// power tells 2 to the power of a number, or 0 if that does not fit into a word.
+// power tells 2 to the power of a number or, if that is less, of a word's width: no
+// bit of the word is left by either.
 func power(number, width int) int {
-	if number >= width {
-		return 0
+	times := 1
+	for i := 0; i < number && i < width; i++ {
+		times *= 2
 	}
-	return 1 << number
+	return times
 }
 
 // Down tells x divided by 2 to the power y, cut to a whole number.

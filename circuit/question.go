@@ -2,10 +2,6 @@ package circuit
 
 import "leak/solver"
 
-// fewConflicts is how long the solver looks for an answer before all values are
-// tried.
-const fewConflicts = 10000
-
 // Ask tells whether there are values of the bits that go in for which an edge
 // holds. Most questions are short work for the solver. For the others there may
 // be few enough values to try them all; if not, the solver must go on.
@@ -15,7 +11,7 @@ func (c *Circuit) Ask(e int) bool {
 		return e == True
 	}
 	c.nameAll(e / 2)
-	answer := c.search(e, fewConflicts)
+	answer := c.search(e, c.patience)
 	if answer == solver.GivenUp {
 		answer = c.tryAll(e)
 	}

@@ -37,7 +37,7 @@ func (c *Circuit) newTrial(e int) *trial {
 		g.b = 2*places[g.b/2] + g.b&1
 		g.c = 2*places[g.c/2] + g.c&1
 		places[i] = len(t.gates)
-		if i > 0 && g.kind == input {
+		if g.kind == input {
 			t.inputs = append(t.inputs, len(t.gates))
 		}
 		t.numbers = append(t.numbers, i)
@@ -67,7 +67,7 @@ func (t *trial) find() bool {
 	for round := 0; round < rounds; round++ {
 		t.choose(round)
 		t.doGates()
-		if t.bit(t.goal) != 0 {
+		if t.bits(t.goal) != 0 {
 			return true
 		}
 	}
@@ -94,25 +94,18 @@ func (t *trial) choose(round int) {
 func (t *trial) doGates() {
 	for i := 0; i < len(t.gates); i++ {
 		g := &t.gates[i]
-		x := t.bit(g.a)
-		y := t.bit(g.b)
-		switch g.kind {
-		case and:
-			t.given[i] = x & y
-		case xor:
-			t.given[i] = x ^ y
-		case choice:
-			t.given[i] = x&y | ^x&t.bit(g.c)
+		if g.kind == input {
+			continue
 		}
+		x := t.bits(g.a)
+		y := t.bits(g.b)
+		z := t.bits(g.c)
+		t.given[i] = give(g.kind, x, y, z)
 	}
 }
 
-func (t *trial) bit(e int) uint64 {
-	bit := t.given[e>>1]
-	if e&1 == 1 {
-		return ^bit
-	}
-	return bit
+func (t *trial) bits(e int) uint64 {
+	return turned(t.given[e/2], e)
 }
 
 // values tells of each gate of the circuit, up to a number, whether it gives 1 in
@@ -120,7 +113,7 @@ func (t *trial) bit(e int) uint64 {
 // what they want to.
 func (t *trial) values(number int) []bool {
 	place := uint64(1)
-	for place != 0 && t.bit(t.goal)&place == 0 {
+	for place != 0 && t.bits(t.goal)&place == 0 {
 		place *= 2
 	}
 	values := make([]bool, number)

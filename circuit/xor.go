@@ -31,40 +31,52 @@ func (c *Circuit) Xor(x, y int) int {
 // are found to be the same, in whichever order they were built. It stops at three,
 // as a gate that stands for no more than two is all that is looked for.
 func (c *Circuit) leaves(x, y int) []int {
-	var sum []int
 	var leaves []int
-	sum = toggle(sum, x)
-	sum = toggle(sum, y)
-	for len(sum) > 0 && len(sum) <= mostOpen && len(leaves) < 3 {
-		last := len(sum) - 1
-		e := sum[last]
-		sum = sum[:last]
+	var open pile
+	open.toggle(x)
+	open.toggle(y)
+	for len(open.edges) > 0 && len(open.edges) <= mostOpen && len(leaves) < 3 {
+		e := open.takeGreatest()
 		g := c.gates[e/2]
 		if g.kind != xor {
 			leaves = append(leaves, e)
 			continue
 		}
-		sum = toggle(sum, g.a)
-		sum = toggle(sum, g.b)
+		open.toggle(g.a)
+		open.toggle(g.b)
 	}
-	for i := len(sum) - 1; i >= 0; i-- {
-		leaves = append(leaves, sum[i])
+	for len(open.edges) > 0 {
+		e := open.takeGreatest()
+		leaves = append(leaves, e)
 	}
 	return leaves
 }
 
-// toggle puts an edge into a rising row of edges or, if it is there, takes it out.
-func toggle(row []int, e int) []int {
-	at := len(row)
-	for at > 0 && row[at-1] > e {
+// A pile is edges that are still to be taken apart, in rising order. Each falls
+// apart into lower ones; so if the greatest is taken first, each comes once.
+type pile struct {
+	edges []int
+}
+
+// toggle puts an edge in or, if it is there, takes it out.
+func (p *pile) toggle(e int) {
+	at := len(p.edges)
+	for at > 0 && p.edges[at-1] > e {
 		at--
 	}
-	if at > 0 && row[at-1] == e {
-		copy(row[at-1:], row[at:])
-		return row[:len(row)-1]
+	if at > 0 && p.edges[at-1] == e {
+		copy(p.edges[at-1:], p.edges[at:])
+		p.edges = p.edges[:len(p.edges)-1]
+		return
 	}
-	row = append(row, 0)
-	copy(row[at+1:], row[at:len(row)-1])
-	row[at] = e
-	return row
+	p.edges = append(p.edges, 0)
+	copy(p.edges[at+1:], p.edges[at:])
+	p.edges[at] = e
+}
+
+func (p *pile) takeGreatest() int {
+	last := len(p.edges) - 1
+	e := p.edges[last]
+	p.edges = p.edges[:last]
+	return e
 }

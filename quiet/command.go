@@ -29,8 +29,8 @@ func (w *watcher) set(c syntax.Command, p pair) pair {
 	if syntax.Divides(c.Op) {
 		p = w.seeDivision(c, p)
 	}
-	free := w.apply(c, p.free)
-	bare := w.apply(c, p.bare)
+	bare := w.circuit.Merge(w.apply(c, p.bare))
+	free := w.circuit.Merge(w.apply(c, p.free))
 	p.free = with(p.free, c.Var, free)
 	p.bare = with(p.bare, c.Var, bare)
 	return p
@@ -55,11 +55,17 @@ func (w *watcher) seeDivision(c syntax.Command, p pair) pair {
 
 func (w *watcher) load(c syntax.Command, p pair) pair {
 	p = w.seeWord(c, p)
-	free := w.circuit.Pick(p.free[w.head.Vars:], w.value(p.free, c.X))
-	bare := w.circuit.Pick(p.bare[w.head.Vars:], w.value(p.bare, c.X))
+	bare := w.circuit.Merge(w.pick(c, p.bare))
+	free := w.circuit.Merge(w.pick(c, p.free))
 	p.free = with(p.free, c.Var, free)
 	p.bare = with(p.bare, c.Var, bare)
 	return p
+}
+
+// pick tells the word that is loaded.
+func (w *watcher) pick(c syntax.Command, state [][]int) []int {
+	at := w.value(state, c.X)
+	return w.circuit.Pick(state[w.head.Vars:], at)
 }
 
 func (w *watcher) store(c syntax.Command, p pair) pair {

@@ -192,6 +192,15 @@ func TestRestart(t *testing.T) {
 	if slices.Max(waits) != 1<<11 {
 		t.Errorf("the longest wait is %d", slices.Max(waits))
 	}
+	s.NewName()
+	if answer := s.SolveIf(1, 0); answer != Found || s.wait != 1 || s.round != 1 {
+		t.Errorf("the next search has found %d, and waits %d, %d times", answer, s.wait, s.round)
+	}
+	s.learned = s.room + 1
+	s.restart()
+	if s.room != firstRoom+moreRoom || s.learned != 0 {
+		t.Errorf("behind a forgetting there are %d clauses, and room for %d", s.learned, s.room)
+	}
 }
 
 // TestForget: half of what was learned stays, the clauses on the fewest levels and

@@ -80,6 +80,64 @@ func TestWhatFollows(t *testing.T) {
 	}
 }
 
+// TestBodies: the letters of want are, for each branch, the numbers of the commands
+// that its second body begins with and that stand behind it in the row.
+func TestBodies(t *testing.T) {
+	for _, c := range []struct{ body, want string }{
+		{"laa=aa+1", ""},
+		{"?a()()", "11"},
+		{"?a(laa)()", "22"},
+		{"?a()(laa)", "12"},
+		{"laa?a(laa)(laa)laa", "34"},
+		{"?a(?a()())(laa)", "23 22"},
+		{"?a(?a(laa)(laa))(laa)", "45 34"},
+		{"?a(laa?a()())(?a()(laa))", "35 33 45"},
+		{"?a(!a(laa))(laa)", "34"},
+		{"!a(laa?a(laa)(laa))laa", "45"},
+	} {
+		k := ReadKernel("1p/p:" + c.body)
+		var got []string
+		for _, command := range k.Commands {
+			if command.Kind == Branch {
+				got = append(got, string([]byte{'0' + byte(command.Second), '0' + byte(command.Behind)}))
+			}
+		}
+		if k.Error != api.OK || strings.Join(got, " ") != c.want {
+			t.Errorf("P9: %s: %v, want %s", c.body, got, c.want)
+		}
+	}
+}
+
+func TestHasLoop(t *testing.T) {
+	for _, c := range []struct {
+		body string
+		want bool
+	}{
+		{"", false}, {"?a(laa)(=aa+1)", false}, {"!0()", true}, {"laa!a()", true},
+		{"?a(!a())()", true}, {"?a()(?a(laa)(laa!1(laa)))", true},
+	} {
+		k := ReadKernel("1p/p:" + c.body)
+		if k.HasLoop() != c.want {
+			t.Errorf("P9: %s: HasLoop is not %v", c.body, c.want)
+		}
+	}
+}
+
+func TestIsPublic(t *testing.T) {
+	for _, text := range []string{"1p/:", "1s/:", "2sp/:", "2sp/ps:", "3ssp/psspp:", "8ssssspss/pppppppppppppppp:", "8pppppppp/ssssspssssssssps:"} {
+		k := ReadKernel(text)
+		letters := strings.Replace(text[1:len(text)-1], "/", "", 1)
+		for i := range letters {
+			if k.Head.IsPublic(i) != (letters[i] == 'p') {
+				t.Errorf("P9: %s: IsPublic(%d) = %v", text, i, k.Head.IsPublic(i))
+			}
+		}
+		if k.Head.IsPublic(-9) || k.Head.IsPublic(len(letters)) || k.Head.IsPublic(99) {
+			t.Errorf("P9: %s: there is more that is public than there is", text)
+		}
+	}
+}
+
 func TestNoKernelHasNothing(t *testing.T) {
 	for _, text := range []string{"", "1p/:?a(laa", "1p/p:laa)", strings.Repeat("1", 301)} {
 		k := ReadKernel(text)
