@@ -15,33 +15,29 @@ const (
 // Circuit is a circuit. No two of its gates are of one kind and have the same
 // edges; so what is built twice, in one way, is one edge.
 type Circuit struct {
-	gates    []gate
-	rows     []int    // the last gate of each row, or none: gates with one hash lie in one row
-	before   []int    // of each gate, the one before it in its row, or none
-	samples  []sample // of each gate
-	seed     uint64   // what the samples of bits that go in come from
-	merged   []int    // edges, no two of which are known to do the same
-	doubts   int      // how many edges were held against them in vain
-	forms    []form   // of words
-	names    []int    // of each gate, its name among the solver's, or 0
-	solver   *solver.Solver
-	patience int    // conflicts until the solver gives up on a question, at first
-	haste    int    // conflicts until it gives up on whether edges do the same
-	values   []bool // of each gate, by the values that the last question was answered with
+	gates   []gate
+	rows    []int    // the last gate of each row, or none: gates with one hash lie in one row
+	before  []int    // of each gate, the one before it in its row, or none
+	samples []sample // of each gate
+	seed    uint64   // what the samples of bits that go in come from
+	merged  []int    // edges, no two of which are known to do the same
+	doubts  int      // how many edges were held against them in vain
+	forms   []form   // of words
+	names   []int    // of each gate, its name among the solver's, or 0
+	solver  *solver.Solver
+	haste   int    // conflicts until the solver gives up on whether edges do the same
+	values  []bool // of each gate, by the values that the last question was answered with
 }
 
 const (
 	none    = -1
 	fewRows = 1 << 10 // a power of 2, as the number of rows always is
 	mix     = 31
-
-	firstPatience = 10000
-	firstHaste    = 1000
 )
 
 // New makes a circuit without inputs.
 func New() *Circuit {
-	c := &Circuit{solver: solver.New(0), seed: firstSeed, patience: firstPatience, haste: firstHaste}
+	c := &Circuit{solver: solver.New(0), seed: firstSeed, haste: usualHaste}
 	c.layRows(fewRows)
 	c.add(gate{kind: nought})
 	c.merge(False)

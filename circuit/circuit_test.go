@@ -4,8 +4,6 @@ import (
 	"math/rand"
 	"slices"
 	"testing"
-
-	"leak/solver"
 )
 
 // run tells what each gate gives, by the values of the bits that go in.
@@ -174,6 +172,23 @@ func TestPlain(t *testing.T) {
 	}
 }
 
+// TestSumsOfBits: bits that come twice leave a sum, however it was built.
+func TestSumsOfBits(t *testing.T) {
+	c := New()
+	x, y, z := c.Input(), c.Input(), c.Input()
+	first, second := c.Xor(c.Xor(x, y), z), c.Xor(x, c.Xor(y, z))
+	v, w := c.Input(), c.Input()
+	if first == second || c.Xor(first, second) != False {
+		t.Errorf("the sums are %d and %d", first, second)
+	}
+	if got, want := c.Xor(c.Xor(first, v), c.Xor(w, second)), c.Xor(v, w); got != want {
+		t.Errorf("the sum is %d, want %d", got, want)
+	}
+	if got := c.Xor(c.Xor(first, v), c.Xor(v, c.Xor(y, x))); got != z {
+		t.Errorf("the sum is %d, want %d", got, z)
+	}
+}
+
 // TestManyGates: gates are found again, however many there are.
 func TestManyGates(t *testing.T) {
 	c := New()
@@ -222,15 +237,20 @@ func TestAsk(t *testing.T) {
 				continue
 			}
 			m.values = nil
-			m.nameAll(e / 2)
-			if m.tryAll(e) == solver.Found != (table != 0) {
-				t.Fatalf("tryAll(%d) of %b", e, table)
+			if m.try(e) != (table != 0) {
+				t.Fatalf("all were tried for %d, of %b", e, table)
 			}
 			if table != 0 && table>>m.Value(inputs)&1 == 0 {
-				t.Fatalf("tryAll(%d) of %b found %b", e, table, m.Value(inputs))
+				t.Fatalf("all were tried for %d, of %b: found %b", e, table, m.Value(inputs))
 			}
 		}
 	}
+}
+
+// try asks a question by trying all values alone.
+func (c *Circuit) try(e int) bool {
+	c.nameAll(e / 2)
+	return c.tryAll(c.newTrial(e))
 }
 
 // TestTrialOfMany: more bits go in than are tried at once, and what is looked for
@@ -240,40 +260,39 @@ func TestTrialOfMany(t *testing.T) {
 		c := New()
 		word := c.Inputs(n)
 		for value := range 1 << n {
-			e := c.Is(word, value)
-			c.nameAll(e / 2)
-			if c.tryAll(e) != solver.Found || c.Value(word) != value {
+			if !c.try(c.Is(word, value)) || c.Value(word) != value {
 				t.Errorf("%d bits: %d was looked for, %d found", n, value, c.Value(word))
 			}
 		}
 		no := c.And(c.IsLess(word, Constant(n, 5)), c.IsLess(Constant(n, 5), word))
-		c.nameAll(no / 2)
-		if c.tryAll(no) != solver.None || c.Ask(no) {
+		if c.try(no) || c.Ask(no) {
 			t.Errorf("%d bits: what is not was found", n)
 		}
 	}
 }
 
-// TestTooMuchWork: more values than can be tried are left to the solver.
+// TestTooMuchWork: more values than can be tried in time are left to the solver.
 func TestTooMuchWork(t *testing.T) {
 	c := New()
-	word := c.Inputs(64)
-	e := c.Is(word, 77)
-	c.nameAll(e / 2)
-	if answer := c.tryAll(e); answer != solver.GivenUp {
-		t.Errorf("tryAll of 64 bits = %d", answer)
-	}
-	if !c.Ask(e) || c.Value(word) != 77 {
-		t.Errorf("%d was found", c.Value(word))
-	}
-	few := c.newTrial(c.Is(word[:20], 77))
-	if rounds := few.rounds(); rounds != 1<<(20-lanes) {
-		t.Errorf("20 bits are tried in %d rounds", rounds)
-	}
-	for n := range 64 {
-		trial := c.newTrial(c.IsAny(word[:n+1]))
-		if rounds := trial.rounds(); rounds > mostWork/len(trial.gates) {
-			t.Errorf("%d bits are tried in %d rounds", n+1, rounds)
+	word := c.Inputs(200)
+	for n := 1; n <= len(word); n++ {
+		some := word[:n]
+		trial := c.newTrial(c.Is(some, 1))
+		conflicts := trial.conflicts()
+		work := 1.0
+		for i := lanes; i < n; i++ {
+			work *= 2
 		}
+		work *= float64(len(trial.gates))
+		if conflicts == 0 && work < 1<<26 || conflicts > 0 && work > 1<<33 {
+			t.Errorf("%d bits, %d gates: %d conflicts", n, len(trial.gates), conflicts)
+		}
+		if conflicts < 0 || conflicts > 1<<20 {
+			t.Errorf("%d bits: %d conflicts", n, conflicts)
+		}
+	}
+	few := word[:60]
+	if !c.Ask(c.Is(few, 1<<59+77)) || c.Value(few) != 1<<59+77 {
+		t.Errorf("%b was found", c.Value(few))
 	}
 }

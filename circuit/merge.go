@@ -5,6 +5,7 @@ import "leak/solver"
 const (
 	samples    = 4   // numbers with 64 places each
 	mostDoubts = 100 // edges that are held against others in vain, at most
+	usualHaste = 1000
 	firstSeed  = 0x9e3779b97f4a7c15
 )
 

@@ -1,6 +1,7 @@
 package circuit
 
 import (
+	"math/bits"
 	"math/rand"
 	"slices"
 	"testing"
@@ -101,31 +102,114 @@ func TestDoubts(t *testing.T) {
 	}
 }
 
-// TestGivenUp: a question that the solver gives up at first, and that hangs on too
-// many bits to try all, is answered all the same; and an edge is not merged with one
-// that only seems to do the same.
-func TestGivenUp(t *testing.T) {
-	c := New()
-	c.patience = 1
-	c.haste = 1
-	words := [][]int{c.Inputs(8), c.Inputs(8), c.Inputs(8), c.Inputs(8), c.Inputs(8), c.Inputs(8)}
+// rows makes words of n bits, each of which is the sum of the two behind it, by
+// divisions, and tells them and the edge that holds if they are.
+func rows(c *Circuit, n, words int) ([][]int, int) {
+	var row [][]int
+	for range words {
+		row = append(row, c.Inputs(n))
+	}
 	e := True
-	for i := range 4 {
-		quotient, rest := c.Divide(words[i], words[i+1])
-		e = c.And(e, c.Differ(rest, words[i+2])^1)
+	for i := range words - 2 {
+		quotient, rest := c.Divide(row[i], row[i+1])
+		e = c.And(e, c.Differ(rest, row[i+2])^1)
 		e = c.And(e, c.Is(quotient, 1))
 	}
+	return row, e
+}
+
+// TestHaste: edges that only seem to do the same are not merged if the solver gives
+// up on them.
+func TestHaste(t *testing.T) {
+	c := New()
+	c.haste = 1
+	_, e := rows(c, 8, 6)
 	if c.merge(e) != e || c.doubts != 1 {
 		t.Errorf("edge %d was merged, with %d doubts", e, c.doubts)
 	}
-	for _, more := range []int{True, c.IsLess(words[2], words[3])} {
-		question := c.And(e, more)
-		c.nameAll(question / 2)
-		if c.search(question, 1) != solver.GivenUp || c.tryAll(question) != solver.GivenUp {
-			t.Fatal("the question is not hard enough")
+	c.nameAll(e / 2)
+	if c.search(e, 1) != solver.GivenUp {
+		t.Error("the solver does not give up")
+	}
+}
+
+// TestHardQuestions: a question that takes the solver some conflicts is answered,
+// whether all values can be tried or not.
+func TestHardQuestions(t *testing.T) {
+	for _, n := range []int{4, 8} {
+		c := New()
+		row, e := rows(c, n, 6)
+		if (c.newTrial(e).conflicts() > 0) != (n == 4) {
+			t.Errorf("%d bits each are not what they were meant to be", n)
 		}
-		if c.Ask(question) != (more == True) {
-			t.Errorf("Ask = %v", more != True)
+		if n == 4 && !c.try(e) {
+			t.Error("all were tried in vain")
+		}
+		if !c.Ask(e) || c.Value(row[0]) != c.Value(row[1])+c.Value(row[2]) || c.Value(row[3]) != c.Value(row[4])+c.Value(row[5]) {
+			t.Errorf("%d bits: nothing right was found", n)
+		}
+		no := c.And(e, c.IsLess(row[2], row[3]))
+		if n == 4 && c.try(no) || c.Ask(no) {
+			t.Errorf("%d bits: what is not was found", n)
 		}
 	}
+}
+
+// parity tells the edge that holds if the bits of a word that are in a row of bits
+// add up to what they do not for a value.
+func parity(c *Circuit, word []int, row, value int) int {
+	edge := bits.OnesCount(uint(row&value)) % 2
+	for i, x := range word {
+		if row>>i&1 == 1 {
+			edge = c.Xor(edge, x)
+		}
+	}
+	return edge
+}
+
+// parities makes an edge that holds if n bits that go in are one value, as far as
+// their parities tell; and if, beyond that, one parity is wrong that follows.
+func parities(r *rand.Rand, n int, wrong bool) (*Circuit, []int, int) {
+	c := New()
+	word := c.Inputs(n)
+	value := r.Intn(1 << n)
+	e, sum := True, 0
+	for range n {
+		row := r.Intn(1 << n)
+		e = c.And(e, parity(c, word, row, value)^1)
+		if r.Intn(2) == 0 {
+			sum ^= row
+		}
+	}
+	if wrong {
+		e = c.And(e, parity(c, word, sum, value))
+	}
+	return c, word, e
+}
+
+// TestTurns: where the solver takes too long, all values are tried, whether there
+// are any to be found or not.
+func TestTurns(t *testing.T) {
+	givenUp := [2]int{}
+	for seed := range int64(12) {
+		wrong := seed%2 == 1
+		c, word, e := parities(rand.New(rand.NewSource(seed)), 20, wrong)
+		if c.Ask(e) == wrong || !wrong && !holds(c, e, word) {
+			t.Errorf("%d: Ask is not %v", seed, !wrong)
+		}
+		c, _, e = parities(rand.New(rand.NewSource(seed)), 20, wrong)
+		c.nameAll(e / 2)
+		if c.solver.SolveIf(c.numberOf(e), c.newTrial(e).conflicts()) == solver.GivenUp {
+			givenUp[seed%2]++
+		}
+	}
+	if givenUp[0] == 0 || givenUp[1] == 0 {
+		t.Errorf("the solver gives up %v times", givenUp)
+	}
+}
+
+// holds tells whether an edge holds by the values that were found of a word that is
+// all that goes in.
+func holds(c *Circuit, e int, word []int) bool {
+	return valueIn(c.run(bitsOf(c.Value(word), len(word))), []int{e}) == 1
 }

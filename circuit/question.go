@@ -3,20 +3,18 @@ package circuit
 import "leak/solver"
 
 // Ask tells whether there are values of the bits that go in for which an edge
-// holds. Most questions are short work for the solver. For the others there may
-// be few enough values to try them all; if not, the solver must go on.
+// holds. Most questions are short work for the solver. Some are not, while there
+// are not too many values to try them all: so the solver has as long as that takes.
 func (c *Circuit) Ask(e int) bool {
 	c.values = nil
 	if e/2 == 0 {
 		return e == True
 	}
 	c.nameAll(e / 2)
-	answer := c.search(e, c.patience)
+	t := c.newTrial(e)
+	answer := c.search(e, t.conflicts())
 	if answer == solver.GivenUp {
-		answer = c.tryAll(e)
-	}
-	if answer == solver.GivenUp {
-		answer = c.search(e, 0)
+		return c.tryAll(t)
 	}
 	return answer == solver.Found
 }
@@ -36,19 +34,15 @@ func (c *Circuit) search(e, conflicts int) int {
 	return answer
 }
 
-// tryAll tries all values, if that is not too much work, and notes those that it
-// finds. What it finds not to be is of use to the solver too.
-func (c *Circuit) tryAll(e int) int {
-	t := c.newTrial(e)
-	if t.rounds() == 0 {
-		return solver.GivenUp
-	}
+// tryAll tries all values, and notes those that it finds. If there are none, the
+// solver may know it for other questions.
+func (c *Circuit) tryAll(t *trial) bool {
 	if !t.find() {
-		c.solver.Add([]int{-c.numberOf(e)})
-		return solver.None
+		c.solver.Add([]int{-c.numberOf(t.edge)})
+		return false
 	}
 	c.values = t.values(len(c.gates))
-	return solver.Found
+	return true
 }
 
 // Value tells the value of a word of bits that go in, by the values that the last

@@ -1,8 +1,11 @@
 package circuit
 
 const (
-	lanes    = 6       // bits that go in whose values are all tried at once
-	mostWork = 1 << 30 // gates that are done, at most, to try all values
+	lanes         = 6       // bits that go in whose values are all tried at once
+	heap          = 64      // gates, as a measure of work
+	mostHeaps     = 1 << 26 // heaps that are done, at most, to try all values
+	perConflict   = 256     // heaps that take about as long as the solver takes for a conflict
+	someConflicts = 100     // conflicts that the solver may always have
 )
 
 // lane tells the values of these bits, side by side: in each of 64 places others.
@@ -17,15 +20,16 @@ var lane = [lanes]uint64{
 
 // A trial tries values. It has the gates that an edge hangs on, in their order.
 type trial struct {
+	edge    int      // in the circuit
+	goal    int      // the same edge in the trial
 	numbers []int    // of each gate, its number in the circuit
 	gates   []gate   // their edges lead to gates of the trial
 	given   []uint64 // what each gate gives, in 64 places
 	inputs  []int    // the gates that are bits that go in
-	goal    int      // the edge
 }
 
 func (c *Circuit) newTrial(e int) *trial {
-	t := &trial{}
+	t := &trial{edge: e}
 	needed := c.needs(e / 2)
 	places := make([]int, len(needed))
 	for i := 0; i < len(needed); i++ {
@@ -48,22 +52,25 @@ func (c *Circuit) newTrial(e int) *trial {
 	return t
 }
 
-// rounds tells how many times the gates are done if all values are tried, or 0 if
-// that is too much work.
-func (t *trial) rounds() int {
-	rounds := 1
+// conflicts tells to how many conflicts the solver may come while all values are
+// tried, or 0 if that takes too long.
+func (t *trial) conflicts() int {
+	heaps := 1 + len(t.gates)/heap
 	for i := lanes; i < len(t.inputs); i++ {
-		if rounds > mostWork/2/len(t.gates) {
+		heaps *= 2
+		if heaps > mostHeaps {
 			return 0
 		}
-		rounds *= 2
 	}
-	return rounds
+	return someConflicts + heaps/perConflict
 }
 
 // find tries values until the edge holds, and tells whether it does at last.
 func (t *trial) find() bool {
-	rounds := t.rounds()
+	rounds := 1
+	for i := lanes; i < len(t.inputs); i++ {
+		rounds *= 2
+	}
 	for round := 0; round < rounds; round++ {
 		t.choose(round)
 		t.doGates()
@@ -109,8 +116,7 @@ func (t *trial) bits(e int) uint64 {
 }
 
 // values tells of each gate of the circuit, up to a number, whether it gives 1 in
-// the first place where the edge holds. Gates that the edge does not hang on give
-// what they want to.
+// the first place where the edge holds, as far as the edge hangs on it.
 func (t *trial) values(number int) []bool {
 	place := uint64(1)
 	for place != 0 && t.bits(t.goal)&place == 0 {
