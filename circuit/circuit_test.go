@@ -224,7 +224,7 @@ func TestAsk(t *testing.T) {
 		for range 20 {
 			m.grow(r)
 			e, table := m.any(r)
-			if m.Ask(e) != (table != 0) {
+			if m.asks(e) != (table != 0) {
 				t.Fatalf("Ask(%d) of %b", e, table)
 			}
 			if e > True && table != 0 && table>>m.Value(inputs)&1 == 0 {
@@ -250,7 +250,42 @@ func TestAsk(t *testing.T) {
 // try asks a question by trying all values alone.
 func (c *Circuit) try(e int) bool {
 	c.nameAll(e / 2)
-	return c.tryAll(c.newTrial(e))
+	return c.tryAll(c.newTrial(e)) == Yes
+}
+
+// asks asks a question, however long it takes.
+func (c *Circuit) asks(e int) bool { return c.Ask(e, 0) == Yes }
+
+// TestInputsOf: an edge hangs on the bits from which it is built.
+func TestInputsOf(t *testing.T) {
+	c := New()
+	x, y, z := c.Inputs(3), c.Inputs(3), c.Inputs(1)
+	both, sum := c.AndWords(x, y), c.Sum(x, y)
+	for i, p := range [][2][]int{
+		{c.InputsOf(False), nil}, {c.InputsOf(True), nil}, {c.InputsOf(z[0]), z}, {c.InputsOf(z[0] ^ 1), z},
+		{c.InputsOf(both[1]), {x[1], y[1]}}, {c.InputsOf(sum[1]), {x[0], x[1], y[0], y[1]}},
+		{c.InputsOf(c.Choice(z[0], both[2], y[0])), {x[2], y[0], y[2], z[0]}},
+	} {
+		if !slices.Equal(p[0], p[1]) {
+			t.Errorf("%d: %v, want %v", i, p[0], p[1])
+		}
+	}
+}
+
+// TestKnownBits: a word may have bits that are known beside those that go in.
+func TestKnownBits(t *testing.T) {
+	c := New()
+	x, y := c.Input(), c.Input()
+	word := []int{True, x, False, y, True}
+	if got := c.Value(word); got != 17 {
+		t.Errorf("%d, before any question", got)
+	}
+	if !c.asks(c.And(x^1, y)) || c.Value(word) != 25 {
+		t.Errorf("%d was found", c.Value(word))
+	}
+	if !c.asks(True) || c.Value(word) != 17 {
+		t.Errorf("%d was found for what always holds", c.Value(word))
+	}
 }
 
 // TestTrialOfMany: more bits go in than are tried at once, and what is looked for
@@ -265,7 +300,7 @@ func TestTrialOfMany(t *testing.T) {
 			}
 		}
 		no := c.And(c.IsLess(word, Constant(n, 5)), c.IsLess(Constant(n, 5), word))
-		if c.try(no) || c.Ask(no) {
+		if c.try(no) || c.asks(no) {
 			t.Errorf("%d bits: what is not was found", n)
 		}
 	}
@@ -292,7 +327,7 @@ func TestTooMuchWork(t *testing.T) {
 		}
 	}
 	few := word[:60]
-	if !c.Ask(c.Is(few, 1<<59+77)) || c.Value(few) != 1<<59+77 {
+	if !c.asks(c.Is(few, 1<<59+77)) || c.Value(few) != 1<<59+77 {
 		t.Errorf("%b was found", c.Value(few))
 	}
 }

@@ -16,6 +16,18 @@ func (c *Circuit) needs(number int) []bool {
 	return needed
 }
 
+// InputsOf tells the bits that go in on which an edge hangs, in their order.
+func (c *Circuit) InputsOf(e int) []int {
+	var inputs []int
+	needed := c.needs(e / 2)
+	for i := 1; i < len(needed); i++ {
+		if needed[i] && c.gates[i].kind == input {
+			inputs = append(inputs, 2*i)
+		}
+	}
+	return inputs
+}
+
 // nameAll gives a name to a gate, and to all those that it hangs on, and says in
 // clauses what they do.
 func (c *Circuit) nameAll(number int) {

@@ -6,6 +6,7 @@ const (
 	samples    = 4   // numbers with 64 places each
 	mostDoubts = 100 // edges that are held against others in vain, at most
 	usualHaste = 1000
+	moreHaste  = 30
 	firstSeed  = 0x9e3779b97f4a7c15
 )
 
@@ -71,6 +72,11 @@ func (c *Circuit) merge(e int) int {
 	}
 	c.merged = append(c.merged, e)
 	return e ^ first
+}
+
+// Hurry lets it look for edges that do the same with more haste.
+func (c *Circuit) Hurry() {
+	c.haste = moreHaste
 }
 
 // isSame tells whether two edges are known to do the same. Where their samples do,

@@ -97,7 +97,7 @@ func TestDoubts(t *testing.T) {
 	if len(slices.Compact(merged)) != 3*mostDoubts {
 		t.Error("edges that do not do the same were merged")
 	}
-	if !c.Ask(c.Is(word, 1<<35+7)) || c.Value(word) != 1<<35+7 {
+	if !c.asks(c.Is(word, 1<<35+7)) || c.Value(word) != 1<<35+7 {
 		t.Errorf("%b was found", c.Value(word))
 	}
 }
@@ -131,6 +131,9 @@ func TestHaste(t *testing.T) {
 	if c.search(e, 1) != solver.GivenUp {
 		t.Error("the solver does not give up")
 	}
+	if c.Hurry(); c.haste != moreHaste || moreHaste >= usualHaste {
+		t.Errorf("in a hurry it takes %d conflicts", c.haste)
+	}
 }
 
 // TestHardQuestions: a question that takes the solver some conflicts is answered,
@@ -145,12 +148,34 @@ func TestHardQuestions(t *testing.T) {
 		if n == 4 && !c.try(e) {
 			t.Error("all were tried in vain")
 		}
-		if !c.Ask(e) || c.Value(row[0]) != c.Value(row[1])+c.Value(row[2]) || c.Value(row[3]) != c.Value(row[4])+c.Value(row[5]) {
+		if !c.asks(e) || c.Value(row[0]) != c.Value(row[1])+c.Value(row[2]) || c.Value(row[3]) != c.Value(row[4])+c.Value(row[5]) {
 			t.Errorf("%d bits: nothing right was found", n)
 		}
 		no := c.And(e, c.IsLess(row[2], row[3]))
-		if n == 4 && c.try(no) || c.Ask(no) {
+		if n == 4 && c.try(no) || c.asks(no) {
 			t.Errorf("%d bits: what is not was found", n)
+		}
+	}
+}
+
+// TestGiveUp: a question is given up behind some conflicts if there are too many
+// values to try them all, and only then.
+func TestGiveUp(t *testing.T) {
+	for _, n := range []int{4, 8} {
+		c := New()
+		row, e := rows(c, n, 6)
+		no := c.And(e, c.IsLess(row[2], row[3]))
+		if a := c.Ask(no, 1); a == GivenUp != (n == 8) || a == Yes {
+			t.Errorf("%d bits: the answer is %d", n, a)
+		}
+		if a := c.Ask(e, 1); n == 4 && a != Yes || a == No {
+			t.Errorf("%d bits: the answer is %d", n, a)
+		}
+		if a := c.Ask(no, 1<<30); a != No {
+			t.Errorf("%d bits: the answer is %d at last", n, a)
+		}
+		if c.Ask(False, 1) != No || c.Ask(True, 1) != Yes {
+			t.Error("what is known is asked in vain")
 		}
 	}
 }
@@ -194,7 +219,7 @@ func TestTurns(t *testing.T) {
 	for seed := range int64(12) {
 		wrong := seed%2 == 1
 		c, word, e := parities(rand.New(rand.NewSource(seed)), 20, wrong)
-		if c.Ask(e) == wrong || !wrong && !holds(c, e, word) {
+		if c.asks(e) == wrong || !wrong && !holds(c, e, word) {
 			t.Errorf("%d: Ask is not %v", seed, !wrong)
 		}
 		c, _, e = parities(rand.New(rand.NewSource(seed)), 20, wrong)

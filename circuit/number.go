@@ -14,8 +14,8 @@ func (c *Circuit) Sum(x, y []int) []int {
 
 // Difference tells x - y, without what is borrowed from above the word.
 func (c *Circuit) Difference(x, y []int) []int {
-	word, _ := c.subtract(x, y)
-	return c.sumUp(word, x, y, -1)
+	word := c.subtract(x, y)
+	return c.sumUp(word[:len(x)], x, y, -1)
 }
 
 // sumUp tells the word that x and, some times, y make. The one that is handed in
@@ -28,21 +28,22 @@ func (c *Circuit) sumUp(word, x, y []int, times int) []int {
 
 // IsLess tells whether x is below y.
 func (c *Circuit) IsLess(x, y []int) int {
-	_, borrow := c.subtract(x, y)
-	return borrow
+	word := c.subtract(x, y)
+	return word[len(x)]
 }
 
-// subtract tells x - y, without what is borrowed from above the word, and whether
-// something is.
-func (c *Circuit) subtract(x, y []int) ([]int, int) {
-	word := make([]int, len(x))
+// subtract tells x - y and, as one bit more, whether something is borrowed from
+// above the word.
+func (c *Circuit) subtract(x, y []int) []int {
+	word := make([]int, len(x)+1)
 	borrow := False
 	for i := 0; i < len(x); i++ {
 		differ := c.Xor(x[i], y[i])
 		word[i] = c.Xor(differ, borrow)
 		borrow = c.Choice(differ, y[i], borrow)
 	}
-	return word, borrow
+	word[len(x)] = borrow
+	return word
 }
 
 // Divide tells how many times y goes into x and what is left over, if y is not 0.
@@ -53,9 +54,10 @@ func (c *Circuit) Divide(x, y []int) ([]int, []int) {
 	rest := Constant(len(x), 0)
 	for i := len(x) - 1; i >= 0; i-- {
 		rest = shiftIn(x[i], rest)
-		difference, below := c.subtract(rest, y)
+		difference := c.subtract(rest, y)
+		below := difference[len(x)]
 		quotient[i] = below ^ 1
-		rest = c.ChoiceOfWords(below, rest, difference)
+		rest = c.ChoiceOfWords(below, rest, difference[:len(x)])
 	}
 	return quotient, rest
 }

@@ -302,10 +302,12 @@ func TestDecideWide(t *testing.T) {
 // TestDecideHard: kernels whose questions take long. One view is enough.
 func TestDecideHard(t *testing.T) {
 	const swap = "lcaldbsadsbc"
-	var before, after string
+	var before, after, sum, sumAfter string
 	for _, w := range "01234567" {
 		before += "le" + string(w) + "=ff^e"
 		after += "le" + string(w) + "=gg^e"
+		sum += "le" + string(w) + "=ff+e"
+		sumAfter += "le" + string(w) + "=gg+e"
 	}
 	for _, c := range []struct {
 		kernel string
@@ -319,6 +321,9 @@ func TestDecideHard(t *testing.T) {
 		{"8sspsss/:=cc|1=aaD1=bbD1=da+b=dd%c=ea%c=fb%c=ee+f=ee%c=dd^e=aa=9=bb=8=aa&b=dd|a?d()()", 0, false},
 		{"8ssssssss/ssssssss:=aa&7=bb&7=ff^f=gg^g" + before + swap + after + "=ff^g?f()()", 8, true},
 		{"8ssssssss/ssssssss:=aa&7=bb&7=ff^f=gg^g" + before + swap + "sac" + after + "=ff^g?f()()", 8, false},
+		{"8ssssssss/ssssssss:=aa&7=bb&7=ff^f=gg^g" + sum + swap + sumAfter + "=ff^g?f()()", 8, true},
+		{"8ppssssss/ssssssss:=aa&7=bb&7=ff^f=gg^g" + sum + swap + sumAfter + "=ff^g?f()()", 0, true},
+		{"8ppssssss/ssssssss:=aa&7=bb&7=ff^f=gg^g" + sum + swap + "=aa=3=bb=5=aa&blc1=cc|as1c" + sumAfter + "=ff^g?f()()", 0, false},
 		{"4ssssssss/ssssssssssssssss:" + strings.Repeat("sablbascdldcsefsfgsghlga", 8) + "?a()()", 6, false},
 		{"4ssssssss/ssssssssssssssss:" + strings.Repeat("sablbascdldcsefsfgsghlga", 8) + "?a()()", 1, false},
 	} {

@@ -99,8 +99,10 @@ func (w *watcher) seeWord(c syntax.Command, p pair) pair {
 	isThere := w.circuit.IsBelow(free, w.head.Words)
 	goesOn := w.circuit.IsBelow(bare, w.head.Words)
 	w.see(p, []int{isThere}, []int{goesOn})
+	free = w.adopt(free, bare)
+	w.numbers = append(w.numbers, free...)
 	if c.X.Named {
-		p.free = with(p.free, c.X.Number, w.adopt(free, bare))
+		p.free = with(p.free, c.X.Number, free)
 	}
 	p.alive = w.circuit.And(p.alive, goesOn)
 	return p

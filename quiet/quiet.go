@@ -6,6 +6,9 @@
 // of the two not the same is seen as of the bare one. At each command of which
 // something is seen it asks whether the two runs can differ in that. As long as
 // they cannot, both go the same way, and that way hangs on what is public alone.
+//
+// Where a question is too hard, it looks at one case after the other instead, in
+// each of which some bits of the input are known.
 package quiet
 
 import (
@@ -13,13 +16,16 @@ import (
 	"leak/syntax"
 )
 
-// A watcher goes over the commands of a kernel.
+// A watcher goes over the commands of a kernel, in one case.
 type watcher struct {
-	circuit  *circuit.Circuit
-	head     syntax.Head
-	commands []syntax.Command
-	view     int
-	differ   bool // the runs can differ in what is seen
+	circuit   *circuit.Circuit
+	head      syntax.Head
+	commands  []syntax.Command
+	view      int
+	conflicts int   // conflicts until it gives up on a question, or 0 if it never does
+	first     pair  // the runs as they begin
+	numbers   []int // edges of the bits of words' numbers that the free run comes to
+	answer    int   // whether the runs can differ in what is seen, as a circuit answers it
 }
 
 // A pair is two runs that have come to one command. What their states are is
@@ -31,31 +37,28 @@ type pair struct {
 	alive int // the edge that holds where they have not been trapped in that body
 }
 
-// Decide tells whether a kernel without loops is quiet in a view. If not, it tells
-// two inputs that are alike, and of which not the same is seen.
-func Decide(k syntax.Program, view int) (bool, []int, []int) {
-	w := watcher{circuit: circuit.New(), head: k.Head, commands: k.Commands, view: view}
-	p := w.begin()
-	w.do(0, len(k.Commands), p)
-	if !w.differ {
-		return true, nil, nil
-	}
-	free := w.values(p.free)
-	bare := w.values(p.bare)
-	return false, free, bare
+func newWatcher(k syntax.Program, view int) *watcher {
+	return &watcher{circuit: circuit.New(), head: k.Head, commands: k.Commands, view: view, answer: circuit.No}
 }
 
-func (w *watcher) begin() pair {
+// watch goes over all commands, in a case.
+func (w *watcher) watch(c *cases) {
+	w.begin(c)
+	w.do(0, len(w.commands), w.first)
+}
+
+func (w *watcher) begin(c *cases) {
 	p := pair{start: circuit.True, alive: circuit.True}
 	for i := 0; i < w.head.Vars+w.head.Words; i++ {
 		word := w.circuit.Inputs(w.head.Width)
+		word = c.known(i, word)
 		p.free = append(p.free, word)
 		if !w.head.IsPublic(i) {
 			word = circuit.Constant(w.head.Width, 0)
 		}
 		p.bare = append(p.bare, word)
 	}
-	return p
+	w.first = p
 }
 
 func (w *watcher) values(state [][]int) []int {
@@ -67,9 +70,9 @@ func (w *watcher) values(state [][]int) []int {
 }
 
 // do does the commands from one number on to another one, which is not done. It
-// stops where no run can come, and where the runs can differ.
+// stops where no run can come, where the runs can differ, and where it gives up.
 func (w *watcher) do(from, to int, p pair) pair {
-	for at := from; at < to && !w.differ && w.reach(p) != circuit.False; {
+	for at := from; at < to && w.answer == circuit.No && w.reach(p) != circuit.False; {
 		c := w.commands[at]
 		next := at + 1
 		switch c.Kind {
@@ -96,15 +99,13 @@ func (w *watcher) reach(p pair) int {
 // see asks whether two words, of the one run and of the other one, from which what
 // is seen is made, can differ.
 func (w *watcher) see(p pair, free, bare []int) {
-	if w.differ {
+	if w.answer != circuit.No {
 		return
 	}
 	reach := w.reach(p)
 	differ := w.circuit.Differ(free, bare)
 	question := w.circuit.And(reach, differ)
-	if w.circuit.Ask(question) {
-		w.differ = true
-	}
+	w.answer = w.circuit.Ask(question, w.conflicts)
 }
 
 // branch does both bodies of a branch. Behind it, each value is that of the body
@@ -114,7 +115,7 @@ func (w *watcher) branch(at int, p pair) pair {
 	free := w.isNotNought(p.free, c.X)
 	bare := w.isNotNought(p.bare, c.X)
 	w.see(p, []int{free}, []int{bare})
-	if w.differ {
+	if w.answer != circuit.No {
 		return p
 	}
 	reach := w.reach(p)
